@@ -8,6 +8,10 @@ def is_whole(value):
     return isinstance(value, int) and not isinstance(value, bool)
 
 
+def is_count(value, most):
+    return is_whole(value) and 0 <= value <= most
+
+
 def is_row(value):
     return isinstance(value, list) and all([is_whole(sign) for sign in value])
 
@@ -32,10 +36,12 @@ def are_places(places, count):
     return True
 
 
+def signs_at(row, places):
+    return [row[place] for place in places]
+
+
 def stands_at(row, other, places):
-    if not are_places(places, len(row)) or len(places) != len(other):
-        return False
-    return all([row[place] == sign for place, sign in zip(places, other)])
+    return are_places(places, len(row)) and signs_at(row, places) == other
 
 
 # Taking each sign where it first comes leaves the most of the row for the signs behind it,

@@ -18,6 +18,11 @@ STATEMENTS = (
     ast.Assign, ast.AugAssign, ast.If, ast.While, ast.For, ast.Return, ast.Break, ast.Continue, ast.Pass, ast.Raise,
     ast.Try, ast.Expr, ast.FunctionDef, ast.ClassDef, ast.ImportFrom,
 )
+EXPRESSIONS_OUT = (
+    ast.Set, ast.SetComp, ast.DictComp, ast.GeneratorExp, ast.NamedExpr, ast.Starred, ast.Div, ast.Await, ast.Yield,
+    ast.YieldFrom, ast.MatMult,
+)
+CALLED = set("append clear copy count extend get index insert items keys pop remove reverse values shows".split())
 WORDS = re.compile(
     r"\b(type|typing|typing_extensions|enum|Enum|IntEnum|StrEnum|Flag|IntFlag|Generic|Protocol|ABC|ABCMeta|namedtuple"
     r"|NamedTuple|TypedDict|TYPE_CHECKING|abstractmethod)\b|dataclass|overload|contextmanager"
@@ -84,6 +89,54 @@ class FormTest(unittest.TestCase):
                     for part in ast.walk(node):
                         if isinstance(part, ast.Expr):
                             self.assertIsInstance(part.value, ast.Call, (path, node.name))
+
+    def test_expressions(self):
+        for path in entries():
+            for node in nodes(path):
+                self.assertNotIsInstance(node, EXPRESSIONS_OUT, path)
+                if isinstance(node, ast.Constant):
+                    self.assertIn(node.value.__class__, (int, str, bool, None.__class__), path)
+                if isinstance(node, ast.ListComp):
+                    self.assertEqual(len(node.generators), 1, path)
+                    self.assertLessEqual(len(node.generators[0].ifs), 1, path)
+                if isinstance(node, ast.Call) and isinstance(node.func, ast.Attribute):
+                    self.assertIn(node.func.attr, CALLED, path)
+                if isinstance(node, ast.Assign):
+                    self.assertEqual(len(node.targets), 1, path)
+                    self.assertNotIsInstance(node.targets[0], (ast.Tuple, ast.List), path)
+
+    def test_each_name_once(self):
+        for path in entries():
+            taken = {alias.name for node in nodes(path) if isinstance(node, ast.ImportFrom) for alias in node.names}
+            taken |= {node.name for node in nodes(path) if isinstance(node, ast.ClassDef)}
+            for node in nodes(path):
+                name = None
+                if isinstance(node, ast.Name) and isinstance(node.ctx, ast.Store):
+                    name = node.id
+                if isinstance(node, ast.arg):
+                    name = node.arg
+                self.assertNotIn(name, taken, path)
+                self.assertFalse(name is not None and hasattr(builtins, name), (path, name))
+
+    def test_no_name_is_a_method_and_a_value(self):
+        methods, values = set(), set()
+        for path in entries():
+            for node in nodes(path):
+                if isinstance(node, ast.ClassDef):
+                    methods |= {part.name for part in node.body if isinstance(part, ast.FunctionDef)}
+                if isinstance(node, ast.Attribute) and isinstance(node.ctx, ast.Store):
+                    values.add(node.attr)
+        self.assertEqual(methods & values, set())
+
+    def test_no_two_files_draw_from_one_another(self):
+        drawn = {}
+        for path in entries():
+            drawn[path.stem] = [node.module[7:] for node in nodes(path) if isinstance(node, ast.ImportFrom)]
+        free = []
+        while len(free) < len(drawn):
+            ready = [name for name in drawn if name not in free and all(other in free for other in drawn[name])]
+            self.assertNotEqual(ready, [], drawn)
+            free.extend(ready)
 
 
 if __name__ == "__main__":

@@ -1,13 +1,10 @@
 import itertools
 import unittest
-from fractions import Fraction
 
+from helper import FAR, NO_NUMBERS, NO_ROWS, VAST, all_places, rows_up_to
 from leftin.errors import BadRow
-from leftin.rows import are_places, checked_row, earliest_places, is_left, is_row, is_whole, stands_at
-
-FAR = 2 ** 64 * 10 ** 40
-# More digits than Python writes out of itself: no check and no refusal may try to.
-VAST = 1 << 20000
+from leftin.rows import are_places, checked_row, earliest_places, is_count, is_left, is_row, is_whole, signs_at
+from leftin.rows import stands_at
 
 GOOD_ROWS = [
     [],
@@ -21,25 +18,6 @@ GOOD_ROWS = [
     [3, 1, 2, 1, 3],
 ]
 
-NO_NUMBERS = [True, False, None, "", "1", "a", 1.0, 0.5, float("nan"), 1j, b"1", Fraction(2), [], [1], (), (1,), {}, len]
-
-NO_ROWS = [
-    None, 0, 1, -1, VAST, True, False, 1.5, "", "12", b"12", bytearray(b"12"), (), (1, 2), {}, {0: 1}, set(), {1},
-    frozenset(), len, lambda: [], list, object(), range(3), iter([1]), {0: 1}.keys(), memoryview(b"12"),
-]
-
-
-def rows_up_to(count, kinds):
-    return [list(row) for many in range(count + 1) for row in itertools.product(range(kinds), repeat=many)]
-
-
-def all_places(row, other):
-    found = []
-    for places in itertools.combinations(range(len(row)), len(other)):
-        if [row[place] for place in places] == other:
-            found.append(list(places))
-    return found
-
 
 class WholeTest(unittest.TestCase):
     def test_whole_numbers(self):
@@ -50,6 +28,18 @@ class WholeTest(unittest.TestCase):
         for value in NO_NUMBERS:
             with self.subTest(value=repr(value)):
                 self.assertIs(is_whole(value), False)
+
+
+class CountTest(unittest.TestCase):
+    def test_counts(self):
+        for value, most in ((0, 0), (0, 3), (2, 3), (3, 3), (FAR, FAR), (FAR, VAST), (0, VAST)):
+            self.assertIs(is_count(value, most), True)
+
+    def test_no_counts(self):
+        for value, most in ((-1, 0), (1, 0), (-1, 3), (4, 3), (FAR + 1, FAR), (-FAR, FAR), (VAST, FAR), (0, -1)):
+            self.assertIs(is_count(value, most), False)
+        for value in NO_NUMBERS:
+            self.assertIs(is_count(value, 3), False)
 
 
 class RowTest(unittest.TestCase):
@@ -64,24 +54,10 @@ class RowTest(unittest.TestCase):
             checked_row(value)
         self.assertIs(caught.exception.__class__, BadRow)
 
-    def test_no_lists(self):
+    def test_no_rows(self):
         for number, value in enumerate(NO_ROWS):
-            with self.subTest(number=number, kind=value.__class__.__name__):
+            with self.subTest(number=number):
                 self.refused(value)
-
-    def test_no_number_at_any_place(self):
-        for value in NO_NUMBERS:
-            for row in ([value], [value, 1, 2], [1, value, 2], [1, 2, value], [value, value]):
-                with self.subTest(row=repr(row)):
-                    self.refused(row)
-
-    def test_a_list_within_itself(self):
-        row = [1]
-        row.append(row)
-        self.refused(row)
-
-    def test_refusal_beside_a_vast_number(self):
-        self.refused([VAST, None])
 
     def test_what_is_refused_is_not_walked(self):
         walked = iter([1, 2, 3])
@@ -133,6 +109,10 @@ class PlacesTest(unittest.TestCase):
 
 
 class StandsAtTest(unittest.TestCase):
+    def test_signs_at_places(self):
+        self.assertEqual(signs_at([4, -1, 4, FAR], [1, 2, 3]), [-1, 4, FAR])
+        self.assertEqual(signs_at([4], []), [])
+
     def test_stands_at_its_places(self):
         row = [4, -1, 4, FAR, 4]
         for other, places in (
